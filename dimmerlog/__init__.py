@@ -1,0 +1,1 @@
+"""Orders of looks at lamps on a dimmer."""
