@@ -13,10 +13,15 @@ def is_name(value):
     return all([sign in SIGNS for sign in value])
 
 
-def check_new(name, earlier):
-    """Raise InvalidName or DuplicateName unless the name is valid and none of the earlier ones."""
+def check_name(name):
+    """Raise InvalidName unless the name is valid."""
     if not is_name(name):
         raise InvalidName(name)
+
+
+def check_new(name, earlier):
+    """Raise InvalidName or DuplicateName unless the name is valid and none of the earlier ones."""
+    check_name(name)
     if name in earlier:
         raise DuplicateName(name)
 

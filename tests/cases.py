@@ -2,7 +2,7 @@
 
 import unittest
 
-from dimmerlog.errors import InvalidLine, TooMany
+from dimmerlog.errors import InvalidLine, InvalidNote, NoOrder, TooMany
 
 
 class DimmerCase(unittest.TestCase):
@@ -24,3 +24,13 @@ class DimmerCase(unittest.TestCase):
     def assert_limit(self, limit, call, *args, **named):
         """The call raises TooMany with this limit."""
         self.assertEqual(limit, self.assert_raises(TooMany, call, *args, **named).limit)
+
+    def assert_note(self, before, after, call, *args, **named):
+        """The call raises InvalidNote with these two names."""
+        error = self.assert_raises(InvalidNote, call, *args, **named)
+        self.assertEqual((before, after), (error.before, error.after))
+
+    def assert_no_order(self, call, *args, **named):
+        """The call raises NoOrder; return its bar and its ring."""
+        error = self.assert_raises(NoOrder, call, *args, **named)
+        return error.bar, error.ring

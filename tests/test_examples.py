@@ -3,7 +3,11 @@
 import unittest
 
 from dimmerlog.errors import InvalidLine, UnknownName
+from dimmerlog.notes import Notes
+from dimmerlog.solving import solve
+from dimmerlog.steps import chain, tied
 from dimmerlog.tables import Table
+from dimmerlog.trees import OrderTree
 from tests.cases import DimmerCase
 
 
@@ -20,6 +24,44 @@ class Tables(DimmerCase):
     def test_two_spaces_in_a_row(self):
         error = self.assert_raises(InvalidLine, Table.read, 'lamps a\nlook x  a')
         self.assertEqual(2, error.line)
+
+
+class Trees(DimmerCase):
+    def test_two_names_side_by_side(self):
+        tree = OrderTree(['a', 'b', 'c', 'd']) & ['a', 'c']
+        self.assertEqual(['((a c) b d)', 12], [str(tree), tree.total])
+
+    def test_a_row(self):
+        tree = OrderTree(['a', 'b', 'c', 'd']) & ['d', 'b'] & ['b', 'a']
+        self.assertEqual(['([a b d] c)', ('a', 'b', 'd', 'c')], [str(tree), list(tree.orders())[0]])
+
+    def test_no_order(self):
+        tree = OrderTree(['a', 'b', 'c']) & ['a', 'b'] & ['b', 'c']
+        self.assertEqual((None, None), self.assert_no_order(lambda: tree & ['a', 'c']))
+
+
+class Steps(DimmerCase):
+    def setUp(self):
+        self.table = Table.read('lamps a b\nlook x a\nlook y a b\nlook z b')
+
+    def test_a_chain(self):
+        found = chain(self.table, ('x', 'z'), ('y', 'z'))
+        self.assertEqual([('x', 'z', None), ('y', 'z', 'a')], found)
+
+    def test_tied_pairs(self):
+        self.assertEqual([('x', 'y'), ('x', 'z'), ('y', 'z')], tied(self.table, ('x', 'y')))
+
+    def test_notes(self):
+        notes = Notes(('y', 'z'), ('x', 'y'))
+        found = [str(notes), str(-notes), str(notes.closed())]
+        self.assertEqual(['x < y, y < z', 'y < x, z < y', 'x < y, x < z, y < z'], found)
+
+    def test_the_least_order(self):
+        solution = solve(self.table, Notes(('z', 'x')))
+        self.assertEqual([('z', 'y', 'x'), None, None], [solution.order, solution.bar, solution.ring])
+
+    def test_notes_that_no_order_keeps(self):
+        self.assertIsNone(solve(self.table, Notes(('x', 'y'), ('x', 'z'), ('z', 'y'))).order)
 
 
 if __name__ == "__main__":

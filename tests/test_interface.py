@@ -1,4 +1,4 @@
-"""The interface under errors.py, tables.py and nodes.py: names, arguments and where they are defined."""
+"""The interface as far as its modules are there: names, arguments and where they are defined."""
 
 import importlib
 import inspect
@@ -9,6 +9,21 @@ CLASSES = {
                "TooMany", "NoOrder", "InvalidOrder"],
     "tables": ["Table"],
     "nodes": ["Node", "Leaf", "Branch", "Group", "Row"],
+    "trees": ["OrderTree"],
+    "notes": ["Notes"],
+    "solving": ["Solution"],
+}
+
+FUNCTIONS = {
+    ("steps", "chain"): ["table", "start", "end"],
+    ("steps", "tied"): ["table", "pair"],
+    ("steps", "bar"): ["table"],
+    ("steps", "lamps_of"): ["steps"],
+    ("solving", "solve"): ["table", "notes=None"],
+    ("solving", "fits"): ["table", "notes=None"],
+    ("solving", "all_orders"): ["table", "notes=None"],
+    ("solving", "count_orders"): ["table", "notes=None", "most=1000"],
+    ("solving", "relation"): ["table", "notes", "first", "second"],
 }
 
 NODE_METHODS = {
@@ -29,6 +44,17 @@ METHODS = {
     ("nodes", "Branch"): {"__init__": ["self", "*parts"]},
     ("nodes", "Group"): NODE_METHODS,
     ("nodes", "Row"): NODE_METHODS,
+    ("trees", "OrderTree"): {
+        "__init__": ["self", "names"], "of": ["table"], "__and__": ["self", "other"], "__contains__": ["self", "x"],
+        "__eq__": ["self", "other"], "__len__": ["self"], "__str__": ["self"],
+        "shape": ["self"], "begins": ["self", "prefix"], "orders": ["self"],
+    },
+    ("notes", "Notes"): {
+        "__init__": ["self", "*pairs"], "__add__": ["self", "other"], "__sub__": ["self", "other"],
+        "__neg__": ["self"], "__contains__": ["self", "x"], "__eq__": ["self", "other"], "__len__": ["self"],
+        "__str__": ["self"], "__iter__": ["self"], "about": ["self", "look"], "closed": ["self"],
+    },
+    ("solving", "Solution"): {"__bool__": ["self"], "used": ["self"]},
 }
 
 
@@ -53,15 +79,29 @@ class Interface(unittest.TestCase):
                     signature = inspect.signature(getattr(find(module, name), method))
                     self.assertEqual(arguments, [str(given) for given in signature.parameters.values()])
 
-    def test_items_properties_and_static_methods(self):
-        table = find("tables", "Table")
+    def test_each_function_is_defined_in_its_file(self):
+        for (module, name), arguments in FUNCTIONS.items():
+            with self.subTest(name):
+                found = find(module, name)
+                self.assertTrue(inspect.isfunction(found))
+                self.assertEqual(("dimmerlog." + module, name), (found.__module__, found.__qualname__))
+                self.assertEqual(arguments, [str(given) for given in inspect.signature(found).parameters.values()])
+
+    def test_items_properties_static_and_class_methods(self):
+        table, tree = find("tables", "Table"), find("trees", "OrderTree")
         self.assertIn("__getitem__", vars(table))
         self.assertIsInstance(vars(table)["groups"], property)
         self.assertIsInstance(vars(table)["read"], staticmethod)
+        self.assertIsInstance(vars(tree)["total"], property)
+        self.assertIsInstance(vars(tree)["of"], classmethod)
 
-    def test_since_is_passed_by_name_only(self):
-        signature = inspect.signature(find("tables", "Table").exchanged)
-        self.assertEqual(inspect.Parameter.KEYWORD_ONLY, signature.parameters["since"].kind)
+    def test_generators(self):
+        for found in [find("solving", "all_orders"), find("trees", "OrderTree").orders]:
+            self.assertTrue(inspect.isgeneratorfunction(found))
+
+    def test_arguments_that_are_passed_by_name_only(self):
+        for call, name in [(find("tables", "Table").exchanged, "since"), (find("solving", "count_orders"), "most")]:
+            self.assertEqual(inspect.Parameter.KEYWORD_ONLY, inspect.signature(call).parameters[name].kind)
 
     def test_kinds_stand_in_their_classes(self):
         for name in ["Leaf", "Group", "Row"]:
@@ -75,6 +115,29 @@ class Interface(unittest.TestCase):
         self.assertEqual(table, table.exchanged(first="a", second="a", since="x"))
         self.assertEqual(2, len(table.with_look(name="y")))
         self.assertTrue(find("nodes", "Leaf")(name="a").begins(prefix=("a",)))
+
+    def test_arguments_of_the_second_stage_may_be_passed_by_name(self):
+        table = find("tables", "Table")(lamps=[], looks=[("x", []), ("y", [])])
+        tree = find("trees", "OrderTree")
+        self.assertEqual(tree(names=["x", "y"]), tree.of(table=table))
+        self.assertTrue(tree(names=["x"]).begins(prefix=["x"]))
+        self.assertEqual([("x", "y", None)], find("steps", "chain")(table=table, start=("x", "y"), end=("x", "y")))
+        self.assertEqual([("x", "y")], find("steps", "tied")(table=table, pair=("x", "y")))
+        self.assertIsNone(find("steps", "bar")(table=table))
+        self.assertEqual([], find("steps", "lamps_of")(steps=[]))
+        notes = find("notes", "Notes")(("y", "x"))
+        self.assertEqual(notes, notes.about(look="x"))
+        self.assertEqual(("y", "x"), find("solving", "solve")(table=table, notes=notes).order)
+        self.assertTrue(find("solving", "fits")(table=table, notes=notes))
+        self.assertEqual([("y", "x")], list(find("solving", "all_orders")(table=table, notes=notes)))
+        self.assertEqual(1, find("solving", "count_orders")(table=table, notes=notes, most=5))
+        self.assertEqual("after", find("solving", "relation")(table=table, notes=notes, first="x", second="y"))
+
+    def test_attributes_are_set_when_an_object_is_created(self):
+        self.assertLessEqual({"names", "root"}, vars(find("trees", "OrderTree")([])).keys())
+        self.assertLessEqual({"pairs"}, vars(find("notes", "Notes")()).keys())
+        solution = find("solving", "solve")(find("tables", "Table")([], []))
+        self.assertLessEqual({"order", "bar", "ring"}, vars(solution).keys())
 
 
 if __name__ == "__main__":
