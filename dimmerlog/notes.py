@@ -57,9 +57,14 @@ class Notes:
         return Notes(*pairs)
 
 
+def pairs_in(notes):
+    """Return the notes, or None, as a tuple of pairs."""
+    return () if notes is None else notes.pairs
+
+
 def pairs_of(table, notes):
     """Return the notes, or None, as a tuple of pairs; raise UnknownName unless the table has their looks."""
-    pairs = () if notes is None else notes.pairs
+    pairs = pairs_in(notes)
     for pair in pairs:
         check_all_known(pair, table.looks)
     return pairs

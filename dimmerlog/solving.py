@@ -2,11 +2,10 @@
 
 from math import factorial
 
-from dimmerlog.errors import InvalidNote, NoOrder
-from dimmerlog.names import check_known
+from dimmerlog.errors import NoOrder
 from dimmerlog.nodes import Leaf, Row
 from dimmerlog.notes import Notes, pairs_of
-from dimmerlog.steps import chain, lamps_of, reached, tied, way_to
+from dimmerlog.steps import chain, check_pair, lamps_of, reached, tied, way_to
 from dimmerlog.trees import OrderTree, fitting, kept_orders, least_order, openings
 
 
@@ -126,17 +125,31 @@ def count_orders(table, notes=None, *, most=1000):
 
 def relation(table, notes, first, second):
     """Return "before" or "after" if every order that fits has the first look there, otherwise "open"."""
-    check_known(first, table.looks)
-    check_known(second, table.looks)
-    if first == second:
-        raise InvalidNote(first, second)
+    check_fitting_pair(table, notes, first, second)
+    if not fits_in_turn(table, notes, second, first):
+        return "before"
+    return "open" if fits_in_turn(table, notes, first, second) else "after"
+
+
+def order_of(table, notes):
+    """Return the least order that fits; raise NoOrder if there is none."""
     solution = solve(table, notes)
     if not solution:
         raise NoOrder(solution.bar, solution.ring)
+    return solution.order
+
+
+def check_fitting_pair(table, notes, first, second):
+    """Raise the errors of `relation`, in their order."""
+    check_pair(table, (first, second))
+    order_of(table, notes)
+
+
+def fits_in_turn(table, notes, *looks):
+    """Tell whether an order fits in which each of the looks is before the next one of them."""
+    pairs = list(zip(looks, looks[1:]))
     known = Notes() if notes is None else notes
-    if not fits(table, known + Notes((second, first))):
-        return "before"
-    return "open" if fits(table, known + Notes((first, second))) else "after"
+    return fits(table, known + Notes(*pairs))
 
 
 def _count_kept(node, notes, limit):

@@ -137,9 +137,9 @@ def fewest_of_a_bar(table):
 
 def is_chain(table, steps):
     """Tell whether this is a chain of the table, as promise 17 says."""
-    if steps.__class__ is not list or not steps or steps[0][2] is not None:
+    if steps.__class__ is not list or not steps:
         return False
-    if not all(step.__class__ is tuple and len(step) == 3 for step in steps):
+    if not all(step.__class__ is tuple and len(step) == 3 for step in steps) or steps[0][2] is not None:
         return False
     if steps[0][:2] not in pairs_of(table):
         return False

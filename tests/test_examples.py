@@ -2,7 +2,10 @@
 
 import unittest
 
+from dimmerlog.arranging import arrange
 from dimmerlog.errors import InvalidLine, UnknownName
+from dimmerlog.failures import fewest_failed
+from dimmerlog.further import may_show, prospects
 from dimmerlog.notes import Notes
 from dimmerlog.solving import solve
 from dimmerlog.steps import chain, tied
@@ -62,6 +65,37 @@ class Steps(DimmerCase):
 
     def test_notes_that_no_order_keeps(self):
         self.assertIsNone(solve(self.table, Notes(('x', 'y'), ('x', 'z'), ('z', 'y'))).order)
+
+
+class Settings(DimmerCase):
+    def setUp(self):
+        self.table = Table.read('lamps a b\nlook x a\nlook y a b\nlook z b')
+
+    def test_an_arrangement(self):
+        arrangement = arrange(self.table)
+        found = [arrangement.settings['y'], arrangement.stretches['a'], arrangement.stretches['b'],
+                 (arrangement + 10)(12)]
+        self.assertEqual([2, (1, 2), (2, 3), ('a', 'b')], found)
+
+    def test_a_further_look(self):
+        found = [may_show(self.table, None, []), may_show(self.table, None, ['a', 'b']),
+                 prospects(self.table, None, 'x', 'y')]
+        self.assertEqual([True, True, {'a': 'on', 'b': 'open'}], found)
+
+    def test_a_lamp_that_no_look_shows(self):
+        table = Table.read('lamps a b c\nlook x a\nlook y a b\nlook z b')
+        self.assertEqual({'a': 'on', 'b': 'open', 'c': 'open'}, prospects(table, None, 'x', 'y'))
+
+    def test_a_note_with_an_unknown_look(self):
+        table = Table(['a'], [('x', [])])
+        error = self.assert_raises(UnknownName, may_show, table, Notes(('new0', 'x')), ['a'])
+        self.assertEqual('new0', error.name)
+
+
+class Failures(unittest.TestCase):
+    def test_failed_lamps(self):
+        table = Table(['a', 'b', 'c'], [('x', ['a', 'b']), ('y', ['b', 'c']), ('z', ['a', 'c'])])
+        self.assertEqual(('a',), fewest_failed(table).lamps)
 
 
 if __name__ == "__main__":

@@ -12,6 +12,8 @@ CLASSES = {
     "trees": ["OrderTree"],
     "notes": ["Notes"],
     "solving": ["Solution"],
+    "arranging": ["Arrangement"],
+    "failures": ["Failure"],
 }
 
 FUNCTIONS = {
@@ -24,6 +26,20 @@ FUNCTIONS = {
     ("solving", "all_orders"): ["table", "notes=None"],
     ("solving", "count_orders"): ["table", "notes=None", "most=1000"],
     ("solving", "relation"): ["table", "notes", "first", "second"],
+    ("checking", "order_holds"): ["table", "notes", "order"],
+    ("checking", "steps_hold"): ["table", "steps"],
+    ("checking", "bar_holds"): ["table", "steps"],
+    ("checking", "ring_holds"): ["table", "notes", "ring"],
+    ("checking", "failure_holds"): ["table", "notes", "most", "paper"],
+    ("checking", "split_holds"): ["table", "paper"],
+    ("checking", "arrangement_holds"): ["table", "notes", "arrangement"],
+    ("arranging", "arrange"): ["table", "notes=None"],
+    ("further", "may_show"): ["table", "notes", "lamps"],
+    ("further", "next_shows"): ["table", "notes=None"],
+    ("further", "prospects"): ["table", "notes", "first", "second"],
+    ("further", "may_share"): ["table", "notes", "first", "second"],
+    ("failures", "all_failed"): ["table", "notes=None", "most=2"],
+    ("failures", "fewest_failed"): ["table", "notes=None", "most=2"],
 }
 
 NODE_METHODS = {
@@ -55,6 +71,11 @@ METHODS = {
         "__str__": ["self"], "__iter__": ["self"], "about": ["self", "look"], "closed": ["self"],
     },
     ("solving", "Solution"): {"__bool__": ["self"], "used": ["self"]},
+    ("arranging", "Arrangement"): {
+        "__init__": ["self", "settings", "stretches"], "__call__": ["self", "setting"],
+        "__add__": ["self", "other"], "__radd__": ["self", "other"], "__neg__": ["self"],
+        "__eq__": ["self", "other"],
+    },
 }
 
 
@@ -96,11 +117,12 @@ class Interface(unittest.TestCase):
         self.assertIsInstance(vars(tree)["of"], classmethod)
 
     def test_generators(self):
-        for found in [find("solving", "all_orders"), find("trees", "OrderTree").orders]:
+        for found in [find("solving", "all_orders"), find("trees", "OrderTree").orders, find("further", "next_shows")]:
             self.assertTrue(inspect.isgeneratorfunction(found))
 
     def test_arguments_that_are_passed_by_name_only(self):
-        for call, name in [(find("tables", "Table").exchanged, "since"), (find("solving", "count_orders"), "most")]:
+        for call, name in [(find("tables", "Table").exchanged, "since"), (find("solving", "count_orders"), "most"),
+                           (find("failures", "all_failed"), "most"), (find("failures", "fewest_failed"), "most")]:
             self.assertEqual(inspect.Parameter.KEYWORD_ONLY, inspect.signature(call).parameters[name].kind)
 
     def test_kinds_stand_in_their_classes(self):
@@ -133,11 +155,36 @@ class Interface(unittest.TestCase):
         self.assertEqual(1, find("solving", "count_orders")(table=table, notes=notes, most=5))
         self.assertEqual("after", find("solving", "relation")(table=table, notes=notes, first="x", second="y"))
 
+    def test_arguments_of_the_third_stage_may_be_passed_by_name(self):
+        table = find("tables", "Table")(lamps=["a"], looks=[("x", ["a"]), ("y", ["a"])])
+        notes = find("notes", "Notes")(("y", "x"))
+        self.assertTrue(find("checking", "order_holds")(table=table, notes=notes, order=("y", "x")))
+        self.assertTrue(find("checking", "steps_hold")(table=table, steps=[("x", "y", None)]))
+        self.assertFalse(find("checking", "bar_holds")(table=table, steps=[("x", "y", None)]))
+        ring = [[("x", "y", None)], [("y", "x", None)]]
+        self.assertFalse(find("checking", "ring_holds")(table=table, notes=notes, ring=ring))
+        paper = (("ring", ring), [])
+        self.assertTrue(find("checking", "failure_holds")(table=table, notes=notes + -notes, most=1, paper=paper))
+        self.assertFalse(find("checking", "split_holds")(table=table, paper=("bar", 1, [])))
+        arrangement = find("arranging", "arrange")(table=table, notes=notes)
+        self.assertTrue(find("checking", "arrangement_holds")(table=table, notes=notes, arrangement=arrangement))
+        self.assertEqual(arrangement, find("arranging", "Arrangement")(settings={"y": 1, "x": 2}, stretches={"a": (1, 2)}))
+        self.assertEqual(("a",), arrangement(setting=2))
+        self.assertTrue(find("further", "may_show")(table=table, notes=notes, lamps=["a"]))
+        self.assertEqual([(), ("a",)], list(find("further", "next_shows")(table=table, notes=notes)))
+        self.assertEqual({"a": "on"}, find("further", "prospects")(table=table, notes=notes, first="x", second="y"))
+        self.assertFalse(find("further", "may_share")(table=table, notes=notes, first="x", second="y"))
+        self.assertEqual([()], find("failures", "all_failed")(table=table, notes=notes, most=0))
+        self.assertEqual((), find("failures", "fewest_failed")(table=table, notes=notes, most=0).lamps)
+
     def test_attributes_are_set_when_an_object_is_created(self):
         self.assertLessEqual({"names", "root"}, vars(find("trees", "OrderTree")([])).keys())
         self.assertLessEqual({"pairs"}, vars(find("notes", "Notes")()).keys())
         solution = find("solving", "solve")(find("tables", "Table")([], []))
         self.assertLessEqual({"order", "bar", "ring"}, vars(solution).keys())
+        self.assertLessEqual({"settings", "stretches"}, vars(find("arranging", "Arrangement")({}, {})).keys())
+        failure = find("failures", "fewest_failed")(find("tables", "Table")([], []))
+        self.assertLessEqual({"lamps", "paper"}, vars(failure).keys())
 
 
 if __name__ == "__main__":
