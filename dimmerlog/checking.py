@@ -18,9 +18,10 @@ def order_holds(table, notes, order):
 
 def steps_hold(table, steps):
     """Tell whether the list of triples is a chain of the table."""
-    if not _is_list_of_triples(steps) or len(steps) == 0 or steps[0][2] is not None:
+    # A ring that is called a bar, or a bar that is called a ring, comes here without triples.
+    if len(steps) == 0 or not all([isinstance(triple, tuple) for triple in steps]):
         return False
-    if not all([_is_pair(table, before, after) for before, after, _ in steps]):
+    if steps[0][2] is not None or not all([_is_pair(table, before, after) for before, after, _ in steps]):
         return False
     return all([_is_step(table, old, new) for old, new in zip(steps, steps[1:])])
 
@@ -82,14 +83,6 @@ def _ascend(place, notes):
     """Tell whether each note has two looks with a place, and the first one's place is less."""
     pairs = pairs_in(notes)
     return all([before in place and after in place and place[before] < place[after] for before, after in pairs])
-
-
-def _is_list_of_triples(steps):
-    """Tell whether the value has the shape of a chain."""
-    # A paper that calls a ring a bar, or a bar a ring, is wrong, but has another shape here.
-    if not isinstance(steps, list):
-        return False
-    return all([isinstance(triple, tuple) and len(triple) == 3 for triple in steps])
 
 
 def _is_pair(table, before, after):

@@ -15,7 +15,7 @@ class Failure:
 
 
 class Search:
-    """Solutions of a table without failed lamps, which are ascending tuples."""
+    """Solves a table without some of its lamps: the failed ones, an ascending tuple."""
 
     def __init__(self, table, notes):
         self._table = table
@@ -24,7 +24,7 @@ class Search:
         self._conflicts = []
 
     def smallest(self, most):
-        """Return an ascending list of the smallest tuples of failed lamps, up to this size, that are enough."""
+        """Return an ascending list of the smallest tuples of failed lamps, of at most this size, that are enough."""
         waiting = [()]
         for _ in range(most + 1):
             enough = [failed for failed in waiting if self._solved(failed)]
@@ -33,13 +33,13 @@ class Search:
             waiting = self._larger(waiting)
         return []
 
-    def paper(self, failed, number):
+    def paper_for(self, failed, number):
         """Return a paper that so many more lamps than these are not enough."""
         solution = self._solved(failed)
         conflict = ("ring", solution.ring) if solution.bar is None else ("bar", solution.bar)
         if number == 0:
             return (conflict, [])
-        return (conflict, [(lamp, self.paper(_extended(failed, lamp), number - 1)) for lamp in solution.used()])
+        return (conflict, [(lamp, self.paper_for(_extended(failed, lamp), number - 1)) for lamp in solution.used()])
 
     def _solved(self, failed):
         """Return a Solution of the table without the failed lamps; a conflict need not be the shortest one."""
@@ -75,9 +75,9 @@ def fewest_failed(table, notes=None, *, most=2):
     search = Search(table, notes)
     enough = search.smallest(most)
     if len(enough) == 0:
-        return Failure(None, search.paper((), most))
+        return Failure(None, search.paper_for((), most))
     lamps = enough[0]
-    return Failure(lamps, search.paper((), len(lamps) - 1) if len(lamps) > 0 else None)
+    return Failure(lamps, search.paper_for((), len(lamps) - 1) if len(lamps) > 0 else None)
 
 
 def check_most(most):

@@ -6,7 +6,7 @@ from dimmerlog.errors import NoOrder
 from dimmerlog.nodes import Leaf, Row
 from dimmerlog.notes import Notes, pairs_of
 from dimmerlog.steps import chain, check_pair, lamps_of, reached, tied, way_to
-from dimmerlog.trees import OrderTree, fitting, kept_orders, least_order, openings
+from dimmerlog.trees import OrderTree, fitting, kept_orders, least_order, links, openings
 
 
 class Solution:
@@ -29,16 +29,16 @@ class Solution:
 
 
 class Lines:
-    """Counts the lines in which numbers can stand, where a link (i, j) says that i stands before j.
+    """Counts the lines in which numbers can stand, where a pair (i, j) says that i stands before j.
 
-    Links do not lead round. So any numbers can stand in some line, and a count that reaches the limit need
+    The pairs do not lead round. So any numbers can stand in some line, and a count that reaches the limit need
     not be finished: no count is higher than the limit.
     """
 
-    def __init__(self, many, links, limit):
+    def __init__(self, many, joined, limit):
         self._limit = limit
-        self._ahead = [[first for first, second in links if second == at] for at in range(many)]
-        self._behind = [[second for first, second in links if first == at] for at in range(many)]
+        self._ahead = [[first for first, second in joined if second == at] for at in range(many)]
+        self._behind = [[second for first, second in joined if first == at] for at in range(many)]
         self._counts = {}
 
     def count_of(self, numbers):
@@ -62,7 +62,7 @@ class Lines:
         return count
 
     def _clusters(self, numbers):
-        """Return the numbers in as many ascending tuples as possible such that no link joins two tuples."""
+        """Return the numbers in as many ascending tuples as possible such that no pair joins two tuples."""
         near = {at: [other for other in self._ahead[at] + self._behind[at] if other in numbers] for at in numbers}
         clusters = []
         for number in numbers:
@@ -167,10 +167,7 @@ def _count_kept(node, notes, limit):
 
 def _count_lines(parts, notes, limit):
     """Return in how many lines the parts of a group can stand, but not more than the limit."""
-    place = {name: at for at, part in enumerate(parts) for name in part.leaves()}
-    links = [(place[before], place[after]) for before, after in notes if before in place and after in place]
-    links = sorted({(first, second) for first, second in links if first != second})
-    lines = Lines(len(parts), links, limit)
+    lines = Lines(len(parts), sorted(set(links(parts, notes))), limit)
     return lines.count_of(tuple(range(len(parts))))
 
 

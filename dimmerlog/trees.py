@@ -116,11 +116,21 @@ def openings(node, notes):
     A run of a row has all of its parts. A run of a group has the part in front, and the node of the others.
     """
     parts = node.parts
+    joined = links(parts, notes)
     if isinstance(node, Row):
-        runs = [parts, parts[::-1]]
-    else:
-        runs = [(part, _as_group(parts[:at] + parts[at + 1:])) for at, part in enumerate(parts)]
-    return [run for run in runs if _keeps(run, notes)]
+        runs = [parts] if all([first < second for first, second in joined]) else []
+        return runs + [parts[::-1]] if all([first > second for first, second in joined]) else runs
+    late = {second: True for _, second in joined}
+    return [(part, _as_group(parts[:at] + parts[at + 1:])) for at, part in enumerate(parts) if at not in late]
+
+
+def links(parts, notes):
+    """Return a pair (i, j) for each note that puts the part at i before another one, at j."""
+    if len(notes) == 0:
+        return []
+    place = {name: at for at, part in enumerate(parts) for name in part.leaves()}
+    within = [(place[before], place[after]) for before, after in notes if before in place and after in place]
+    return [(first, second) for first, second in within if first != second]
 
 
 def _root_of(names):
@@ -146,15 +156,6 @@ def _starts(node, notes):
         for name in inner:
             found[name] = inner[name] + run[1:]
     return found
-
-
-def _keeps(run, notes):
-    """Tell whether no note puts a name of a later node of the run before one of an earlier node."""
-    if len(notes) == 0:
-        return True
-    place = {name: at for at, node in enumerate(run) for name in node.leaves()}
-    within = [(before, after) for before, after in notes if before in place and after in place]
-    return all([place[before] <= place[after] for before, after in within])
 
 
 def _least_name(node):

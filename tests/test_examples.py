@@ -1,12 +1,15 @@
-"""The examples of the document, as far as their modules are there."""
+"""The examples of the document."""
 
 import unittest
 
 from dimmerlog.arranging import arrange
+from dimmerlog.charts import chart
+from dimmerlog.desk import Desk
 from dimmerlog.errors import InvalidLine, UnknownName
 from dimmerlog.failures import fewest_failed
 from dimmerlog.further import may_show, prospects
 from dimmerlog.notes import Notes
+from dimmerlog.sliders import split
 from dimmerlog.solving import solve
 from dimmerlog.steps import chain, tied
 from dimmerlog.tables import Table
@@ -96,6 +99,21 @@ class Failures(unittest.TestCase):
     def test_failed_lamps(self):
         table = Table(['a', 'b', 'c'], [('x', ['a', 'b']), ('y', ['b', 'c']), ('z', ['a', 'c'])])
         self.assertEqual(('a',), fewest_failed(table).lamps)
+
+    def test_two_sliders(self):
+        table = Table(['a', 'b', 'c'], [('x', ['a', 'b']), ('y', ['b', 'c']), ('z', ['a', 'c'])])
+        self.assertEqual([('a', 'b'), ('c',)], [split(table).first, split(table).second])
+
+
+class Desks(unittest.TestCase):
+    def test_a_desk(self):
+        desk = Desk()
+        answers = desk.run('lamp a\nlook x a\nlook y\norder\ncount\nundo')
+        self.assertEqual(['ok', 'ok', 'ok', 'order x y', '2', 'ok'], answers)
+
+    def test_a_chart(self):
+        table = Table.read('lamps a b\nlook x a\nlook y a b\nlook z b')
+        self.assertEqual('a            .##   2\nb            ##.   2', chart(table, ['z', 'y', 'x']))
 
 
 if __name__ == "__main__":

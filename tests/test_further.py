@@ -68,6 +68,9 @@ class MayShow(DimmerCase):
         table = Table(["a"], [(look, ["a"]) for look in looks])
         self.assertIs(True, may_show(table, Notes(("new0", "new1"), ("x", "new2")), ["a"]))
         self.assertIs(True, may_show(blank(23), None, []))
+        table = Table(["a"], [(look, []) for look in names(24, "new")])
+        self.assert_limit(24, may_show, table, None, ["a"])
+        self.assertIs(True, may_show(table.only(*table.looks[:-1]), None, ["a"]))
 
     def test_24_looks(self):
         table = blank(24, "a")

@@ -1,4 +1,4 @@
-"""The interface as far as its modules are there: names, arguments and where they are defined."""
+"""The interface: names, arguments and where they are defined."""
 
 import importlib
 import inspect
@@ -14,6 +14,9 @@ CLASSES = {
     "solving": ["Solution"],
     "arranging": ["Arrangement"],
     "failures": ["Failure"],
+    "sliders": ["Split"],
+    "halls": ["Hall"],
+    "desk": ["Desk"],
 }
 
 FUNCTIONS = {
@@ -40,6 +43,9 @@ FUNCTIONS = {
     ("further", "may_share"): ["table", "notes", "first", "second"],
     ("failures", "all_failed"): ["table", "notes=None", "most=2"],
     ("failures", "fewest_failed"): ["table", "notes=None", "most=2"],
+    ("sliders", "split"): ["table"],
+    ("sliders", "exchanges"): ["table", "notes=None"],
+    ("charts", "chart"): ["table", "order", "on='#'", "off='.'"],
 }
 
 NODE_METHODS = {
@@ -75,6 +81,18 @@ METHODS = {
         "__init__": ["self", "settings", "stretches"], "__call__": ["self", "setting"],
         "__add__": ["self", "other"], "__radd__": ["self", "other"], "__neg__": ["self"],
         "__eq__": ["self", "other"],
+    },
+    ("halls", "Hall"): {
+        "__init__": ["self"], "of": ["table", "notes=None"],
+        "add_lamp": ["self", "name"], "add_look": ["self", "name", "*lamps"],
+        "remove_lamp": ["self", "name"], "remove_look": ["self", "name"],
+        "note": ["self", "before", "after"], "forget": ["self", "before", "after"],
+        "change": ["self", "*changes"], "set_most": ["self", "value"], "undo": ["self"], "solution": ["self"],
+        "best_order": ["self"], "relation": ["self", "first", "second"], "failed": ["self"],
+        "tried": ["self", "*changes"],
+    },
+    ("desk", "Desk"): {
+        "__init__": ["self", "hall=None"], "__call__": ["self", "line"], "run": ["self", "text"],
     },
 }
 
@@ -115,6 +133,12 @@ class Interface(unittest.TestCase):
         self.assertIsInstance(vars(table)["read"], staticmethod)
         self.assertIsInstance(vars(tree)["total"], property)
         self.assertIsInstance(vars(tree)["of"], classmethod)
+        hall = vars(find("halls", "Hall"))
+        self.assertIn("__setitem__", hall)
+        self.assertIsInstance(hall["of"], staticmethod)
+        for name in ["table", "known", "changes", "most"]:
+            self.assertIsInstance(hall[name], property)
+        self.assertIsNotNone(hall["most"].fset)
 
     def test_generators(self):
         for found in [find("solving", "all_orders"), find("trees", "OrderTree").orders, find("further", "next_shows")]:
@@ -122,7 +146,8 @@ class Interface(unittest.TestCase):
 
     def test_arguments_that_are_passed_by_name_only(self):
         for call, name in [(find("tables", "Table").exchanged, "since"), (find("solving", "count_orders"), "most"),
-                           (find("failures", "all_failed"), "most"), (find("failures", "fewest_failed"), "most")]:
+                           (find("failures", "all_failed"), "most"), (find("failures", "fewest_failed"), "most"),
+                           (find("charts", "chart"), "on"), (find("charts", "chart"), "off")]:
             self.assertEqual(inspect.Parameter.KEYWORD_ONLY, inspect.signature(call).parameters[name].kind)
 
     def test_kinds_stand_in_their_classes(self):
@@ -177,6 +202,27 @@ class Interface(unittest.TestCase):
         self.assertEqual([()], find("failures", "all_failed")(table=table, notes=notes, most=0))
         self.assertEqual((), find("failures", "fewest_failed")(table=table, notes=notes, most=0).lamps)
 
+    def test_arguments_of_the_fourth_stage_may_be_passed_by_name(self):
+        table = find("tables", "Table")(lamps=["b", "a"], looks=[("x", ["a"]), ("y", ["a"])])
+        notes = find("notes", "Notes")(("y", "x"))
+        self.assertEqual(("b", "a"), find("sliders", "split")(table=table).first)
+        self.assertEqual(2, len(find("sliders", "exchanges")(table=table, notes=notes)))
+        self.assertEqual("b            //   0\na            ++   2",
+                         find("charts", "chart")(table=table, order=["y", "x"], on="+", off="/"))
+        hall = find("halls", "Hall").of(table=table, notes=notes)
+        hall.add_lamp(name="c")
+        hall.add_look(name="z")
+        hall.remove_lamp(name="b")
+        hall.note(before="x", after="z")
+        self.assertEqual("before", hall.relation(first="y", second="z"))
+        hall.forget(before="x", after="z")
+        hall.remove_look(name="z")
+        hall.set_most(value=3)
+        self.assertEqual((6, 3, ("a", "c")), (hall.changes, hall.most, hall.table.lamps))
+        desk = find("desk", "Desk")(hall=hall)
+        self.assertEqual("order y x", desk(line="order"))
+        self.assertEqual(["1"], desk.run(text="count"))
+
     def test_attributes_are_set_when_an_object_is_created(self):
         self.assertLessEqual({"names", "root"}, vars(find("trees", "OrderTree")([])).keys())
         self.assertLessEqual({"pairs"}, vars(find("notes", "Notes")()).keys())
@@ -185,6 +231,9 @@ class Interface(unittest.TestCase):
         self.assertLessEqual({"settings", "stretches"}, vars(find("arranging", "Arrangement")({}, {})).keys())
         failure = find("failures", "fewest_failed")(find("tables", "Table")([], []))
         self.assertLessEqual({"lamps", "paper"}, vars(failure).keys())
+        split = find("sliders", "split")(find("tables", "Table")([], []))
+        self.assertLessEqual({"first", "second", "paper"}, vars(split).keys())
+        self.assertLessEqual({"hall"}, vars(find("desk", "Desk")()).keys())
 
 
 if __name__ == "__main__":

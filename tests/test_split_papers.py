@@ -41,7 +41,7 @@ class Holds(unittest.TestCase):
         self.assertIs(True, split_holds(table, papers.split_paper(table, table.lamps)))
 
     def test_a_bar_at_the_top(self):
-        for number in [1, 2]:
+        for number in [1, 2, 0, None]:
             self.assertIs(False, split_holds(TRIANGLE, ("bar", number, bar(TRIANGLE))))
 
     def test_lamps_of_a_bar_that_are_not_all_on_its_slider(self):
@@ -57,7 +57,8 @@ class Holds(unittest.TestCase):
             return ("lamp", paper[1], numbered(paper[2], number), numbered(paper[3], number))
 
         self.assertIs(True, split_holds(self.table, numbered(self.paper, lambda number: number)))
-        for wrong in [lambda number: 3 - number, lambda number: number - 1, lambda number: 3, lambda number: 1]:
+        for wrong in [lambda number: 3 - number, lambda number: number - 1, lambda number: 3, lambda number: 1,
+                      lambda number: None]:
             self.assertIs(False, split_holds(self.table, numbered(self.paper, wrong)))
 
     def test_a_lamp_that_is_on_a_slider_already(self):
@@ -69,6 +70,8 @@ class Holds(unittest.TestCase):
         _, lamp, one, two = self.paper
         for name in ["q", "u", "ua", ""]:
             self.assertIs(False, split_holds(self.table, ("lamp", name, one, two)))
+            self.assertIs(False, split_holds(self.table, ("lamp", name, self.paper, self.paper)))
+            self.assertIs(False, split_holds(self.table, ("lamp", lamp, ("lamp", name, one, one), two)))
 
     def test_empty_chains(self):
         for number in [0, 1, 2]:
@@ -80,6 +83,21 @@ class Holds(unittest.TestCase):
         for word in ["", "bar", "Lamp", "ring"]:
             self.assertIs(False, split_holds(self.table, (word, lamp, one, two)))
             self.assertIs(False, split_holds(self.table, ("lamp", lamp, (word, 1, two), two)))
+
+    def test_other_words_at_the_bars(self):
+        def worded(paper, word):
+            if paper[0] == "bar":
+                return (word, *paper[1:])
+            return ("lamp", paper[1], worded(paper[2], word), worded(paper[3], word))
+
+        self.assertIs(True, split_holds(self.table, worded(self.paper, "bar")))
+        for word in ["", "Bar", "ring", "lamp"]:
+            self.assertIs(False, split_holds(self.table, worded(self.paper, word)))
+
+    def test_a_lamp_with_one_paper_or_none(self):
+        _, lamp, one, two = self.paper
+        for paper in [("lamp", lamp), ("lamp", lamp, one), ("lamp", lamp, ("lamp", "b"), two)]:
+            self.assertIs(False, split_holds(self.table, paper))
 
     def test_arguments_stay_as_they_are(self):
         before = str(self.table), repr(self.paper)

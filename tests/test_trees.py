@@ -3,6 +3,7 @@
 import unittest
 from itertools import islice, permutations, product
 from math import factorial
+from random import Random
 
 from dimmerlog.errors import DuplicateName, InvalidName, NoOrder, UnknownName
 from dimmerlog.nodes import Group, Leaf, Row
@@ -129,6 +130,23 @@ class SideBySide(DimmerCase):
                         self.assertEqual(tree_of("abcdef", *turned[::-1]), tree)
                     else:
                         self.assertEqual((None, None), self.assert_no_order(tree_of, "fbdace", *turned))
+
+    def test_many_choices_along_a_line_against_a_plain_listing(self):
+        rest = Random(3)
+        every = list(permutations("abcdef"))
+        for _ in range(250):
+            tree, orders, line = OrderTree([*"fbdace"]), every, rest.sample("abcdef", 6)
+            for _ in range(rest.randint(2, 6)):
+                start = rest.randint(0, 4)
+                chosen = line[start:start + rest.randint(2, 5)]
+                # Now and then the chosen names need not stand side by side in the line.
+                chosen = rest.sample("abcdef", 3) if rest.random() < 0.2 else chosen
+                kept = [order for order in orders if plain.side_by_side(order, chosen)]
+                if kept:
+                    tree, orders = tree & chosen, kept
+                    self.assertEqual((orders, len(orders)), (list(tree.orders()), tree.total))
+                else:
+                    self.assertEqual((None, None), self.assert_no_order(lambda: tree & chosen))
 
     def test_texts(self):
         for text, looks, *choices in [
